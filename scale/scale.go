@@ -1,0 +1,13 @@
+// Package scale is chapter 1: wine in casks, exactly and vintage by vintage, the acts that change it, and systems of scales with their language. See shared/doc/01-scale.md.
+package scale
+
+// within tells whether n is from least to most.
+func within(n, least, most int) bool { return least <= n && n <= most }
+
+// gcd is the greatest number that divides both, of which none is below 0.
+func gcd(a, b int) int {
+	for b != 0 {
+		a, b = b, a%b
+	}
+	return a
+}
