@@ -67,6 +67,23 @@ func (a Nat) Plus(b Nat) Nat {
 	return trimmed(sum)
 }
 
+// Minus returns the difference; a lesser number less a greater one counts as 0.
+func (a Nat) Minus(b Nat) Nat {
+	if a.Compare(b) <= 0 {
+		return Nat{}
+	}
+	rest := slices.Clone(a.digits)
+	below := uint64(0)
+	for i := range rest {
+		other := uint64(0)
+		if i < len(b.digits) {
+			other = b.digits[i]
+		}
+		rest[i], below = bits.Sub64(rest[i], other, below)
+	}
+	return trimmed(rest)
+}
+
 // Times returns the product.
 func (a Nat) Times(b Nat) Nat {
 	product := make([]uint64, len(a.digits)+len(b.digits))

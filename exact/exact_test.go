@@ -49,6 +49,12 @@ func TestAgainstBig(t *testing.T) {
 		if s := a.Plus(b); !same(s, new(big.Int).Add(x, y)) {
 			t.Fatalf("%v + %v: %v", x, y, bigOf(s))
 		}
+		if d, e := a.Minus(b), new(big.Int).Sub(x, y); e.Sign() >= 0 && !same(d, e) || e.Sign() < 0 && !d.IsZero() {
+			t.Fatalf("%v - %v: %v", x, y, bigOf(d))
+		}
+		if d := a.Plus(b).Minus(b); !same(d, x) {
+			t.Fatalf("%v + %v - %v: %v", x, y, y, bigOf(d))
+		}
 		if p := a.Times(b); !same(p, new(big.Int).Mul(x, y)) {
 			t.Fatalf("%v * %v: %v", x, y, bigOf(p))
 		}
