@@ -6,6 +6,7 @@ import (
 	"strings"
 
 	"criadera/api"
+	"criadera/texts"
 )
 
 // A kind is what is told of a kind of acts: its word, the least and the most casks, the numbers in its text, whether it takes wine from its first cask, and whether it puts wine into its last one.
@@ -60,7 +61,7 @@ func CheckAct(a api.ScaleAct) api.Errno {
 func checkNames(l []string) api.Errno {
 	seen := map[string]bool{}
 	_, e := firstWrong(l, func(name string) api.Errno {
-		if !isName(name) {
+		if !texts.IsName(name) {
 			return api.ErrName
 		}
 		if seen[name] {
@@ -109,7 +110,7 @@ func readAct(words []string) (api.ScaleAct, bool) {
 	if k == api.ScaleJoin && casks < 1 || k != api.ScaleJoin && casks != kinds[k].least {
 		return api.ScaleAct{}, false
 	}
-	numbers, ok := allOf(words[1+casks:], func(s string) (int, bool) { return readSigned(s, digitsOfActs) })
+	numbers, ok := allOf(words[1+casks:], func(s string) (int, bool) { return texts.Signed(s, digitsOfActs) })
 	if !ok {
 		return api.ScaleAct{}, false
 	}

@@ -5,6 +5,7 @@ import (
 	"strings"
 
 	"criadera/api"
+	"criadera/texts"
 )
 
 // A lineForm is the form of a line: its first word, how many names and then numbers stand behind it, and whether more of the last ones may follow.
@@ -187,12 +188,12 @@ func (l line) contentOf(f int) (content, int, api.Errno) {
 		case n >= least && !forms[f].more:
 			return content{}, w.column, api.ErrSyntax
 		case n < forms[f].names || forms[f].numbers == 0:
-			if !isName(w.text) {
+			if !texts.IsName(w.text) {
 				return content{}, w.column, api.ErrName
 			}
 			x.names = append(x.names, w.text)
 		default:
-			number, ok := readNumber(w.text, digitsOfActs)
+			number, ok := texts.Number(w.text, digitsOfActs)
 			if !ok {
 				return content{}, w.column, api.ErrSyntax
 			}

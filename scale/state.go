@@ -4,6 +4,7 @@ import (
 	"slices"
 
 	"criadera/api"
+	"criadera/texts"
 )
 
 // CheckState returns the first error of a state, and the number of the cask that has it (0 if none is named).
@@ -26,7 +27,7 @@ func CheckState(s api.ScaleState) (int, api.Errno) {
 func checkCasks(l []api.ScaleCask) (int, api.Errno) {
 	seen := map[string]bool{}
 	return firstWrong(l, func(c api.ScaleCask) api.Errno {
-		if !isName(c.Name) {
+		if !texts.IsName(c.Name) {
 			return api.ErrName
 		}
 		if !within(c.Capacity, 1, api.MaxVolume) {

@@ -5,6 +5,7 @@ import (
 	"strconv"
 
 	"criadera/api"
+	"criadera/texts"
 )
 
 // A run is a system at work: the volumes of its casks, step by step.
@@ -50,7 +51,7 @@ func (r *run) isClosed() bool {
 
 // CheckSystem returns the first error of a system, and the mark of what has it.
 func CheckSystem(s api.ScaleSystem) (api.ScaleMark, api.Errno) {
-	if !isName(s.Name) {
+	if !texts.IsName(s.Name) {
 		return api.ScaleMark{}, api.ErrName
 	}
 	if m, e := checkVessels(s.Casks); e != api.OK {
@@ -99,7 +100,7 @@ func checkVessels(l []api.ScaleVessel) (api.ScaleMark, api.Errno) {
 	seen := map[string]bool{}
 	return firstMarked(api.ScaleVessels, l, func(v api.ScaleVessel) api.Errno {
 		switch {
-		case !isName(v.Name):
+		case !texts.IsName(v.Name):
 			return api.ErrName
 		case !within(v.Capacity, 1, api.MaxVolume) || !within(v.Start, 0, v.Capacity):
 			return api.ErrRange
@@ -203,7 +204,7 @@ func YearOf(s api.ScaleSystem, vintage int) ([]api.ScaleDated, api.Errno) {
 
 // Classic returns a classic system.
 func Classic(c api.ScaleClassic) (api.ScaleSystem, api.Errno) {
-	if !isName(c.Name) {
+	if !texts.IsName(c.Name) {
 		return api.ScaleSystem{}, api.ErrName
 	}
 	if !within(c.Scales, 1, api.MaxScaleCasks) || !within(c.Casks, 1, api.MaxScaleCasks) || !within(c.Capacity, 1, api.MaxVolume) || !within(c.Draw, 1, c.Capacity) {

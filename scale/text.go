@@ -5,6 +5,7 @@ import (
 	"strings"
 
 	"criadera/api"
+	"criadera/texts"
 )
 
 // FormatState returns the text of a state, whatever it is.
@@ -58,7 +59,7 @@ func readCask(piece string) (api.ScaleCask, bool) {
 	if len(words) < 3 {
 		return api.ScaleCask{}, false
 	}
-	capacity, ok := readNumber(words[1], digitsOfStates)
+	capacity, ok := texts.Number(words[1], digitsOfStates)
 	wine, right := readWine(words[2:])
 	return api.ScaleCask{Name: words[0], Capacity: capacity, Wine: wine}, ok && right
 }
@@ -75,14 +76,14 @@ func readWine(words []string) (api.ScaleWine, bool) {
 	if len(words) == 0 {
 		return api.ScaleWine{}, false
 	}
-	den, ok := readNumber(words[0], digitsOfStates)
+	den, ok := texts.Number(words[0], digitsOfStates)
 	parts, right := allOf(words[1:], readPart)
 	return api.ScaleWine{Den: den, Parts: parts}, ok && right
 }
 
 func readPart(word string) (api.ScalePart, bool) {
 	before, behind, _ := strings.Cut(word, ":")
-	source, ok := readNumber(before, digitsOfStates)
-	amount, right := readNumber(behind, digitsOfStates)
+	source, ok := texts.Number(before, digitsOfStates)
+	amount, right := texts.Number(behind, digitsOfStates)
 	return api.ScalePart{Source: source, Amount: amount}, ok && right
 }
