@@ -1,6 +1,9 @@
 package flor
 
-import "criadera/api"
+import (
+	"criadera/api"
+	"criadera/checks"
+)
 
 // lostOf is how many millionths are lost in some days: less than all of them, since rates and days have limits.
 func lostOf(rate api.Range, days int) api.Range {
@@ -33,7 +36,7 @@ func (w checked) after(r api.FlorRate, days int) (checked, api.Errno) {
 
 // After returns the wine behind some days.
 func After(w api.FlorWine, r api.FlorRate, days int) (api.FlorWine, api.Errno) {
-	if e := first(CheckWine(w), CheckRate(r), daysError(days)); e != api.OK {
+	if e := checks.First(CheckWine(w), CheckRate(r), daysError(days)); e != api.OK {
 		return api.FlorWine{}, e
 	}
 	out, e := checked{w}.after(r, days)
@@ -42,7 +45,7 @@ func After(w api.FlorWine, r api.FlorRate, days int) (api.FlorWine, api.Errno) {
 
 // Over returns the wine behind spells, or the number of the first one with an error.
 func Over(w api.FlorWine, l []api.FlorSpell) (api.FlorWine, int, api.Errno) {
-	if e := first(CheckWine(w), unless(len(l) <= api.MaxFlorSpells, api.ErrLarge)); e != api.OK {
+	if e := checks.First(CheckWine(w), checks.Unless(len(l) <= api.MaxFlorSpells, api.ErrLarge)); e != api.OK {
 		return api.FlorWine{}, 0, e
 	}
 	for n, spell := range l {
@@ -56,7 +59,7 @@ func Over(w api.FlorWine, l []api.FlorSpell) (api.FlorWine, int, api.Errno) {
 
 // LossOf returns how much wine is lost in some days.
 func LossOf(w api.FlorWine, r api.FlorRate, days int) (api.Range, api.Errno) {
-	if e := first(CheckWine(w), CheckRate(r), daysError(days)); e != api.OK {
+	if e := checks.First(CheckWine(w), CheckRate(r), daysError(days)); e != api.OK {
 		return api.Range{}, e
 	}
 	return scaled(w.Volume, lostOf(r.Wine, days), exactly(api.Million)), api.OK
@@ -64,7 +67,7 @@ func LossOf(w api.FlorWine, r api.FlorRate, days int) (api.Range, api.Errno) {
 
 // SafeDays returns for how many days a wine surely keeps a strength. It asks day by day, and not After, which would refuse a wine whose greatest strength is too great.
 func SafeDays(w api.FlorWine, r api.FlorRate, strength int) (int, api.Errno) {
-	if e := first(CheckWine(w), CheckRate(r), strengthError(strength), unless(w.Strength.Lo >= strength, api.ErrBreak)); e != api.OK {
+	if e := checks.First(CheckWine(w), CheckRate(r), strengthError(strength), checks.Unless(w.Strength.Lo >= strength, api.ErrBreak)); e != api.OK {
 		return 0, e
 	}
 	days := 0

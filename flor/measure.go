@@ -1,29 +1,33 @@
 package flor
 
-import "criadera/api"
+import (
+	"criadera/api"
+	"criadera/checks"
+	"criadera/ranges"
+)
 
 func measureError(m api.FlorMeasure) api.Errno {
-	return first(numberError(m.Day, 0, api.MaxDate), CheckWine(m.Wine))
+	return checks.First(checks.Date(m.Day), CheckWine(m.Wine))
 }
 
 // betweenError is the error of the days between two measurements.
 func betweenError(a, b api.FlorMeasure) api.Errno {
-	return first(unless(b.Day > a.Day, api.ErrOrder), unless(b.Day-a.Day <= api.Year, api.ErrLarge))
+	return checks.First(checks.Unless(b.Day > a.Day, api.ErrOrder), checks.Unless(b.Day-a.Day <= api.Year, api.ErrLarge))
 }
 
 // rateOf is the rate with which the one wine becomes the other one, by what both have at least and at most, as far as a rate may be.
 func rateOf(before, after checked, days int, least, most end) api.Range {
 	rate := api.Range{
-		Lo: floor(api.Million*(least(before)-most(after)), least(before)*days),
-		Hi: ceiling(api.Million*(most(before)-least(after)), most(before)*days),
+		Lo: ranges.Floor(api.Million*(least(before)-most(after)), least(before)*days),
+		Hi: ranges.Ceiling(api.Million*(most(before)-least(after)), most(before)*days),
 	}
-	return common(rate, api.Range{Hi: api.MaxFlorRate})
+	return ranges.Common(rate, api.Range{Hi: api.MaxFlorRate})
 }
 
 // RatesOf returns the rates with which a wine may have become another one.
 func RatesOf(before, after api.FlorWine, days int) (api.FlorRate, api.Errno) {
 	isSome := before.Volume.Lo > 0 && before.Strength.Lo > 0
-	if e := first(CheckWine(before), CheckWine(after), numberError(days, 1, api.Year), unless(isSome, api.ErrEmpty)); e != api.OK {
+	if e := checks.First(CheckWine(before), CheckWine(after), checks.Number(days, 1, api.Year), checks.Unless(isSome, api.ErrEmpty)); e != api.OK {
 		return api.FlorRate{}, e
 	}
 	a, b := checked{before}, checked{after}
@@ -31,7 +35,7 @@ func RatesOf(before, after api.FlorWine, days int) (api.FlorRate, api.Errno) {
 		Wine:    rateOf(a, b, days, checked.leastVolume, checked.mostVolume),
 		Alcohol: rateOf(a, b, days, checked.leastAlcohol, checked.mostAlcohol),
 	}
-	if isNothing(r.Wine) || isNothing(r.Alcohol) {
+	if ranges.IsNothing(r.Wine) || ranges.IsNothing(r.Alcohol) {
 		return api.FlorRate{}, api.ErrClash
 	}
 	return r, api.OK
@@ -39,7 +43,7 @@ func RatesOf(before, after api.FlorWine, days int) (api.FlorRate, api.Errno) {
 
 // Explains returns whether a rate explains a measurement behind another one.
 func Explains(r api.FlorRate, a, b api.FlorMeasure) (int, api.Errno) {
-	if e := first(CheckRate(r), measureError(a), measureError(b), betweenError(a, b)); e != api.OK {
+	if e := checks.First(CheckRate(r), measureError(a), measureError(b), betweenError(a, b)); e != api.OK {
 		return 0, e
 	}
 	w, e := checked{a.Wine}.after(r, b.Day-a.Day)
@@ -51,13 +55,13 @@ func Explains(r api.FlorRate, a, b api.FlorMeasure) (int, api.Errno) {
 
 // measuresError is the first error of measurements, with its number.
 func measuresError(l []api.FlorMeasure) (int, api.Errno) {
-	if e := first(unless(len(l) > 0, api.ErrShape), unless(len(l) <= api.MaxFlorMeasures, api.ErrLarge)); e != api.OK {
+	if e := checks.First(checks.Unless(len(l) > 0, api.ErrShape), checks.Unless(len(l) <= api.MaxFlorMeasures, api.ErrLarge)); e != api.OK {
 		return 0, e
 	}
 	for n, m := range l {
 		e := measureError(m)
 		if n > 0 {
-			e = first(e, betweenError(l[n-1], m))
+			e = checks.First(e, betweenError(l[n-1], m))
 		}
 		if e != api.OK {
 			return n, e

@@ -5,6 +5,8 @@ import (
 	"math"
 
 	"criadera/api"
+	"criadera/checks"
+	"criadera/ranges"
 )
 
 // A mixture is wines that are put together.
@@ -47,15 +49,15 @@ func (m mixture) means(least, most end) api.Range {
 			low += volumes[n] * least(w)
 			high += volumes[n] * most(w)
 		}
-		out.Lo = min(out.Lo, floor(low, total))
-		out.Hi = max(out.Hi, ceiling(high, total))
+		out.Lo = min(out.Lo, ranges.Floor(low, total))
+		out.Hi = max(out.Hi, ranges.Ceiling(high, total))
 	}
 	return out
 }
 
 // Mixed returns the mixed wine.
 func Mixed(l []api.FlorWine) (api.FlorWine, api.Errno) {
-	if e := first(unless(len(l) > 0, api.ErrShape), unless(len(l) <= api.MaxFlorWines, api.ErrLarge)); e != api.OK {
+	if e := checks.First(checks.Unless(len(l) > 0, api.ErrShape), checks.Unless(len(l) <= api.MaxFlorWines, api.ErrLarge)); e != api.OK {
 		return api.FlorWine{}, e
 	}
 	m := make(mixture, 0, len(l))
@@ -66,7 +68,7 @@ func Mixed(l []api.FlorWine) (api.FlorWine, api.Errno) {
 		m = append(m, checked{w})
 	}
 	volume := m.volume()
-	if e := first(unless(volume.Hi > 0, api.ErrEmpty), unless(volume.Hi <= api.MaxVolume, api.ErrLarge)); e != api.OK {
+	if e := checks.First(checks.Unless(volume.Hi > 0, api.ErrEmpty), checks.Unless(volume.Hi <= api.MaxVolume, api.ErrLarge)); e != api.OK {
 		return api.FlorWine{}, e
 	}
 	return api.FlorWine{
@@ -78,7 +80,7 @@ func Mixed(l []api.FlorWine) (api.FlorWine, api.Errno) {
 
 // Drawn returns the wine that is left if a volume is drawn.
 func Drawn(w api.FlorWine, volume api.Range) (api.FlorWine, api.Errno) {
-	if e := first(CheckWine(w), rangeError(volume, api.MaxVolume), unless(w.Volume.Lo >= volume.Hi, api.ErrBreak)); e != api.OK {
+	if e := checks.First(CheckWine(w), checks.Range(volume, api.MaxVolume), checks.Unless(w.Volume.Lo >= volume.Hi, api.ErrBreak)); e != api.OK {
 		return api.FlorWine{}, e
 	}
 	w.Volume = api.Range{Lo: w.Volume.Lo - volume.Hi, Hi: w.Volume.Hi - volume.Lo}
@@ -93,12 +95,12 @@ func Fortified(w api.FlorWine, x api.FlorSpirit) (api.FlorWine, api.Errno) {
 
 // SpiritFor returns how much spirit is needed to reach a target: the least wine with the most strength needs the least, the most wine with the least strength the most.
 func SpiritFor(w api.FlorWine, strength, target int) (api.Range, api.Errno) {
-	if e := first(CheckWine(w), strengthError(strength), strengthError(target), unless(strength > target, api.ErrZero)); e != api.OK {
+	if e := checks.First(CheckWine(w), strengthError(strength), strengthError(target), checks.Unless(strength > target, api.ErrZero)); e != api.OK {
 		return api.Range{}, e
 	}
 	needed := func(volume, of end) int {
 		missing := max(0, target-of(checked{w}))
-		return ceiling(volume(checked{w})*missing, strength-target)
+		return ranges.Ceiling(volume(checked{w})*missing, strength-target)
 	}
 	out := api.Range{Lo: needed(checked.leastVolume, checked.mostStrength), Hi: needed(checked.mostVolume, checked.leastStrength)}
 	if out.Hi > api.MaxVolume {

@@ -1,50 +1,24 @@
 package flor
 
 import (
-	"slices"
-	"strconv"
 	"strings"
 
 	"criadera/api"
+	"criadera/checks"
 	"criadera/texts"
 )
 
 // mostDigits is the most digits of numbers in texts.
 const mostDigits = 9
 
-// text is words and numbers behind them, with single blanks between.
-func text(words []string, numbers ...int) string {
-	all := slices.Clone(words)
-	for _, n := range numbers {
-		all = append(all, strconv.Itoa(n))
-	}
-	return strings.Join(all, " ")
-}
-
-// readNumbers reads so many numbers.
-func readNumbers(words []string, count int) ([]int, bool) {
-	if len(words) != count {
-		return nil, false
-	}
-	l := make([]int, 0, count)
-	for _, word := range words {
-		n, ok := texts.Signed(word, mostDigits)
-		if !ok {
-			return nil, false
-		}
-		l = append(l, n)
-	}
-	return l, true
-}
-
 // FormatWine returns the text of a wine, whatever it is.
 func FormatWine(w api.FlorWine) string {
-	return text(nil, w.Volume.Lo, w.Volume.Hi, w.Strength.Lo, w.Strength.Hi, w.Sugar.Lo, w.Sugar.Hi)
+	return texts.Line(nil, w.Volume.Lo, w.Volume.Hi, w.Strength.Lo, w.Strength.Hi, w.Sugar.Lo, w.Sugar.Hi)
 }
 
 // ParseWine returns the wine with a text.
 func ParseWine(s string) (api.FlorWine, api.Errno) {
-	l, ok := readNumbers(strings.Split(s, " "), 6)
+	l, ok := texts.Numbers(strings.Split(s, " "), 6, mostDigits)
 	if !ok {
 		return api.FlorWine{}, api.ErrSyntax
 	}
@@ -57,17 +31,16 @@ func ParseWine(s string) (api.FlorWine, api.Errno) {
 
 // FormatLoss returns the text of a loss, whatever it is.
 func FormatLoss(l api.FlorLoss) string {
-	return text([]string{l.Cask}, l.From, l.To, l.Volume.Lo, l.Volume.Hi)
+	return texts.Line([]string{l.Cask}, l.From, l.To, l.Volume.Lo, l.Volume.Hi)
 }
 
 // ParseLoss returns the loss with a text.
 func ParseLoss(s string) (api.FlorLoss, api.Errno) {
-	words := strings.Split(s, " ")
-	l, ok := readNumbers(words[1:], 4)
-	if !ok || words[0] == "" {
+	cask, l, ok := texts.WordAndNumbers(s, 4, mostDigits)
+	if !ok {
 		return api.FlorLoss{}, api.ErrSyntax
 	}
-	x := api.FlorLoss{Cask: words[0], From: l[0], To: l[1], Volume: api.Range{Lo: l[2], Hi: l[3]}}
+	x := api.FlorLoss{Cask: cask, From: l[0], To: l[1], Volume: api.Range{Lo: l[2], Hi: l[3]}}
 	if e := lossError(x); e != api.OK {
 		return api.FlorLoss{}, e
 	}
@@ -75,10 +48,10 @@ func ParseLoss(s string) (api.FlorLoss, api.Errno) {
 }
 
 func lossError(x api.FlorLoss) api.Errno {
-	return first(
-		unless(texts.IsName(x.Cask), api.ErrName),
-		numberError(x.From, 0, api.MaxDate),
-		numberError(x.To, 0, api.MaxDate),
-		unless(x.From <= x.To, api.ErrOrder),
-		rangeError(x.Volume, api.MaxVolume))
+	return checks.First(
+		checks.Name(x.Cask),
+		checks.Date(x.From),
+		checks.Date(x.To),
+		checks.Unless(x.From <= x.To, api.ErrOrder),
+		checks.Range(x.Volume, api.MaxVolume))
 }

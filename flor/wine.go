@@ -1,6 +1,10 @@
 package flor
 
-import "criadera/api"
+import (
+	"criadera/api"
+	"criadera/checks"
+	"criadera/ranges"
+)
 
 // A checked wine is a wine that was told, and is right.
 type checked struct{ api.FlorWine }
@@ -26,13 +30,13 @@ func (w checked) mostAlcohol() int { return w.Volume.Hi * w.Strength.Hi }
 
 // common is what two wines have in common, and whether this is anything.
 func (w checked) common(with checked) (checked, bool) {
-	both := api.FlorWine{Volume: common(w.Volume, with.Volume), Strength: common(w.Strength, with.Strength), Sugar: common(w.Sugar, with.Sugar)}
-	return checked{both}, !isNothing(both.Volume) && !isNothing(both.Strength) && !isNothing(both.Sugar)
+	both := api.FlorWine{Volume: ranges.Common(w.Volume, with.Volume), Strength: ranges.Common(w.Strength, with.Strength), Sugar: ranges.Common(w.Sugar, with.Sugar)}
+	return checked{both}, !ranges.IsNothing(both.Volume) && !ranges.IsNothing(both.Strength) && !ranges.IsNothing(both.Sugar)
 }
 
 // LegalIs returns whether a wine has a strength and a sugar that a law permits.
 func LegalIs(w api.FlorWine, x api.FlorLaw) (int, api.Errno) {
-	if e := first(CheckWine(w), CheckLaw(x)); e != api.OK {
+	if e := checks.First(CheckWine(w), CheckLaw(x)); e != api.OK {
 		return 0, e
 	}
 	return answer(bound{w.Strength, x.Strength}, bound{w.Sugar, x.Sugar}), api.OK

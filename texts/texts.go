@@ -1,4 +1,4 @@
-// Package texts reads names and numbers in texts, as DOC.md's terms and its rule R9 tell them for all chapters.
+// Package texts reads and writes names and numbers in texts, as DOC.md's terms and its rule R9 tell them for all chapters.
 package texts
 
 import "criadera/api"

@@ -1,0 +1,41 @@
+// Package checks makes errors of what is asked of arguments, as all chapters ask it.
+package checks
+
+import (
+	"criadera/api"
+	"criadera/texts"
+)
+
+// First is the first error of those that are given.
+func First(l ...api.Errno) api.Errno {
+	for _, e := range l {
+		if e != api.OK {
+			return e
+		}
+	}
+	return api.OK
+}
+
+// Unless is an error, unless something is right.
+func Unless(right bool, e api.Errno) api.Errno {
+	if right {
+		return api.OK
+	}
+	return e
+}
+
+// Number asks for a number from least to most.
+func Number(n, least, most int) api.Errno {
+	return Unless(least <= n && n <= most, api.ErrRange)
+}
+
+// Range asks for ends from 0 to most, and then for their order.
+func Range(r api.Range, most int) api.Errno {
+	return First(Number(r.Lo, 0, most), Number(r.Hi, 0, most), Unless(r.Lo <= r.Hi, api.ErrOrder))
+}
+
+// Date asks for a day.
+func Date(day int) api.Errno { return Number(day, 0, api.MaxDate) }
+
+// Name asks for a name.
+func Name(s string) api.Errno { return Unless(texts.IsName(s), api.ErrName) }

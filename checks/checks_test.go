@@ -1,0 +1,75 @@
+package checks
+
+import (
+	"math"
+	"testing"
+
+	"criadera/api"
+)
+
+func TestFirst(t *testing.T) {
+	for _, x := range []struct {
+		l []api.Errno
+		e api.Errno
+	}{
+		{nil, api.OK},
+		{[]api.Errno{api.OK, api.OK}, api.OK},
+		{[]api.Errno{api.OK, api.ErrOrder, api.ErrRange, api.OK}, api.ErrOrder},
+		{[]api.Errno{api.ErrRank}, api.ErrRank},
+	} {
+		if e := First(x.l...); e != x.e {
+			t.Errorf("the first error of %v: %d", x.l, e)
+		}
+	}
+}
+
+func TestUnless(t *testing.T) {
+	if e := Unless(true, api.ErrForm); e != api.OK {
+		t.Error(e)
+	}
+	if e := Unless(false, api.ErrForm); e != api.ErrForm {
+		t.Error(e)
+	}
+}
+
+func TestNumber(t *testing.T) {
+	for n, e := range map[int]api.Errno{3: api.OK, 4: api.OK, 5: api.OK, 2: api.ErrRange, 6: api.ErrRange, math.MinInt: api.ErrRange, math.MaxInt: api.ErrRange} {
+		if f := Number(n, 3, 5); f != e {
+			t.Errorf("%d: %d", n, f)
+		}
+	}
+}
+
+func TestRange(t *testing.T) {
+	for r, e := range map[api.Range]api.Errno{
+		{}:                                 api.OK,
+		{Lo: 5, Hi: 5}:                     api.OK,
+		{Lo: 0, Hi: 5}:                     api.OK,
+		{Lo: 3, Hi: 2}:                     api.ErrOrder,
+		{Lo: -1, Hi: 2}:                    api.ErrRange,
+		{Lo: 2, Hi: -1}:                    api.ErrRange,
+		{Lo: 2, Hi: 6}:                     api.ErrRange,
+		{Lo: 6, Hi: 2}:                     api.ErrRange,
+		{Lo: math.MaxInt, Hi: math.MinInt}: api.ErrRange,
+	} {
+		if f := Range(r, 5); f != e {
+			t.Errorf("%v: %d", r, f)
+		}
+	}
+}
+
+func TestDate(t *testing.T) {
+	for day, e := range map[int]api.Errno{0: api.OK, api.MaxDate: api.OK, -1: api.ErrRange, api.MaxDate + 1: api.ErrRange} {
+		if f := Date(day); f != e {
+			t.Errorf("%d: %d", day, f)
+		}
+	}
+}
+
+func TestName(t *testing.T) {
+	for s, e := range map[string]api.Errno{"butt": api.OK, "": api.ErrName, "9": api.ErrName, "abcdefghijklm": api.ErrName} {
+		if f := Name(s); f != e {
+			t.Errorf("%q: %d", s, f)
+		}
+	}
+}
