@@ -3,6 +3,7 @@ package age
 import (
 	"criadera/api"
 	"criadera/exact"
+	"criadera/lowest"
 )
 
 // A cellar is the casks of a system at work. All amounts in it have one denominator, so that casks are mixed without looking for a common one at each step.
@@ -60,7 +61,7 @@ func (w *cellar) put(into int, more row, volume int) {
 // take takes a volume, and returns what was in it.
 func (w *cellar) take(from, volume int) row {
 	v := &w.vats[from]
-	divisor := gcd(volume, v.volume)
+	divisor := lowest.Divisor(volume, v.volume)
 	part, whole := volume/divisor, v.volume/divisor
 	taken, left := v.times(exact.Of(part)), v.times(exact.Of(whole-part))
 	w.widen(whole)
@@ -76,7 +77,7 @@ func (w *cellar) join(casks []string) {
 		v := w.vats[w.at[name]]
 		all = all.plus(v.row)
 		total += v.volume
-		divisor = gcd(divisor, v.volume)
+		divisor = lowest.Divisor(divisor, v.volume)
 	}
 	if total == 0 {
 		return

@@ -4,6 +4,7 @@ import (
 	"slices"
 
 	"criadera/api"
+	"criadera/lowest"
 )
 
 // Reached returns the least age that comes into each cask (-1 if there is none).
@@ -92,7 +93,7 @@ func (c *system) period(set []int) int {
 	for _, from := range set {
 		for _, to := range set {
 			if c.goes(from, to) {
-				period = gcd(period, turns[from]+1-turns[to])
+				period = lowest.Divisor(period, turns[from]+1-turns[to])
 			}
 		}
 	}

@@ -6,6 +6,7 @@ import (
 	"slices"
 
 	"criadera/api"
+	"criadera/lowest"
 	"criadera/scale"
 )
 
@@ -255,7 +256,7 @@ func (p plain) period(cask int) int {
 	period := 0
 	for turns := range p.goes {
 		if p.goes[turns][cask][cask] {
-			period = gcd(period, turns)
+			period = lowest.Divisor(period, turns)
 		}
 	}
 	return period

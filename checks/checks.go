@@ -29,6 +29,32 @@ func Number(n, least, most int) api.Errno {
 	return Unless(least <= n && n <= most, api.ErrRange)
 }
 
+// Numbers asks for numbers from least to most.
+func Numbers(l []int, least, most int) api.Errno {
+	_, e := Each(len(l), func(n int) api.Errno { return Number(l[n], least, most) })
+	return e
+}
+
+// Each looks at so many elements by their numbers, and returns the number of the first wrong one and its error (0 and OK if there is none).
+func Each(count int, errorOf func(n int) api.Errno) (int, api.Errno) {
+	for n := range count {
+		if e := errorOf(n); e != api.OK {
+			return n, e
+		}
+	}
+	return 0, api.OK
+}
+
+// Chosen asks for the numbers of some of so many elements, ascending.
+func Chosen(l []int, count int) api.Errno {
+	_, e := Each(len(l), func(n int) api.Errno {
+		return First(
+			Unless(0 <= l[n] && l[n] < count, api.ErrMissing),
+			Unless(n == 0 || l[n-1] < l[n], api.ErrOrder))
+	})
+	return e
+}
+
 // Range asks for ends from 0 to most, and then for their order.
 func Range(r api.Range, most int) api.Errno {
 	return First(Number(r.Lo, 0, most), Number(r.Hi, 0, most), Unless(r.Lo <= r.Hi, api.ErrOrder))

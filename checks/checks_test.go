@@ -73,3 +73,52 @@ func TestName(t *testing.T) {
 		}
 	}
 }
+
+func TestNumbers(t *testing.T) {
+	for _, x := range []struct {
+		l []int
+		e api.Errno
+	}{
+		{nil, api.OK}, {[]int{3, 5, 4, 3}, api.OK}, {[]int{2}, api.ErrRange}, {[]int{3, 6}, api.ErrRange}, {[]int{3, 4, math.MinInt}, api.ErrRange},
+	} {
+		if e := Numbers(x.l, 3, 5); e != x.e {
+			t.Errorf("%v: %d", x.l, e)
+		}
+	}
+}
+
+func TestEach(t *testing.T) {
+	errors := []api.Errno{api.OK, api.OK, api.ErrOrder, api.ErrRange}
+	looked := 0
+	errorOf := func(n int) api.Errno {
+		looked++
+		return errors[n]
+	}
+	for _, x := range []struct {
+		count, n int
+		e        api.Errno
+		looked   int
+	}{
+		{0, 0, api.OK, 0}, {2, 0, api.OK, 2}, {3, 2, api.ErrOrder, 3}, {4, 2, api.ErrOrder, 3},
+	} {
+		looked = 0
+		if n, e := Each(x.count, errorOf); n != x.n || e != x.e || looked != x.looked {
+			t.Errorf("of %d: %d, %d, looked at %d", x.count, n, e, looked)
+		}
+	}
+}
+
+func TestChosen(t *testing.T) {
+	for _, x := range []struct {
+		l []int
+		e api.Errno
+	}{
+		{nil, api.OK}, {[]int{0}, api.OK}, {[]int{0, 1, 2}, api.OK}, {[]int{2}, api.OK},
+		{[]int{3}, api.ErrMissing}, {[]int{-1}, api.ErrMissing}, {[]int{0, math.MaxInt}, api.ErrMissing}, {[]int{math.MinInt, 0}, api.ErrMissing},
+		{[]int{1, 0}, api.ErrOrder}, {[]int{1, 1}, api.ErrOrder}, {[]int{1, 0, 3}, api.ErrOrder}, {[]int{1, -1}, api.ErrMissing}, {[]int{0, 3, 1}, api.ErrMissing},
+	} {
+		if e := Chosen(x.l, 3); e != x.e {
+			t.Errorf("%v: %d, want %d", x.l, e, x.e)
+		}
+	}
+}

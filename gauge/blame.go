@@ -5,15 +5,13 @@ import (
 	"slices"
 
 	"criadera/api"
+	"criadera/checks"
 )
 
 // Without returns a book without some of its gaugings.
 func Without(b api.GaugeBook, l []int) (api.GaugeBook, api.Errno) {
-	checked, e := bookOf(b)
-	if e != api.OK {
-		return api.GaugeBook{}, e
-	}
-	if _, e := firstWrong(l, checked.readingError, func(before, n int) bool { return before < n }); e != api.OK {
+	_, e := CheckBook(b)
+	if e := checks.First(e, checks.Chosen(l, len(b.Readings))); e != api.OK {
 		return api.GaugeBook{}, e
 	}
 	readings := kept(b.Readings, func(n int) bool { return !slices.Contains(l, n) })

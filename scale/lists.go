@@ -1,15 +1,13 @@
 package scale
 
-import "criadera/api"
+import (
+	"criadera/api"
+	"criadera/checks"
+)
 
 // firstWrong looks through a list, and returns the number of its first wrong element and the error (0 and OK if there is none).
 func firstWrong[T any](l []T, check func(x T) api.Errno) (int, api.Errno) {
-	for n, x := range l {
-		if e := check(x); e != api.OK {
-			return n, e
-		}
-	}
-	return 0, api.OK
+	return checks.Each(len(l), func(n int) api.Errno { return check(l[n]) })
 }
 
 // allOf reads all elements of a list, and returns nothing if one of them cannot be read.

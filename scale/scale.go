@@ -9,11 +9,3 @@ const (
 
 // within tells whether n is from least to most.
 func within(n, least, most int) bool { return least <= n && n <= most }
-
-// gcd is the greatest number that divides both, of which none is below 0.
-func gcd(a, b int) int {
-	for b != 0 {
-		a, b = b, a%b
-	}
-	return a
-}

@@ -5,6 +5,7 @@ import (
 	"slices"
 
 	"criadera/api"
+	"criadera/lowest"
 )
 
 // CheckWine returns the first error of a wine.
@@ -113,7 +114,7 @@ func sumOf(w api.ScaleWine) int {
 func divisorOf(w api.ScaleWine) int {
 	d := w.Den
 	for _, p := range w.Parts {
-		d = gcd(d, p.Amount)
+		d = lowest.Divisor(d, p.Amount)
 	}
 	return d
 }
