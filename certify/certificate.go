@@ -6,7 +6,7 @@ import (
 	"criadera/ranges"
 )
 
-// Issue returns a certificate of what is asked. Of a mean its Age is 0, whatever was told: it changes nothing.
+// Issue returns a certificate of what is asked, as it was asked: the Age of a mean changes nothing, but it stays.
 func Issue(b api.CertifyBook, a api.CertifyAsk, name string) (api.CertifyCertificate, api.Errno) {
 	if e := checks.Name(name); e != api.OK {
 		return api.CertifyCertificate{}, e
@@ -14,9 +14,6 @@ func Issue(b api.CertifyBook, a api.CertifyAsk, name string) (api.CertifyCertifi
 	x, e := Least(b, a)
 	if e != api.OK {
 		return api.CertifyCertificate{}, e
-	}
-	if a.Kind == api.CertifyMean {
-		a.Age = 0
 	}
 	return api.CertifyCertificate{Name: name, Ask: a, Value: ranges.Floor(unitOf(a)*x.Value[0], x.Value[1]), Proof: x.Proof}, api.OK
 }

@@ -20,6 +20,7 @@ func TestIssue(t *testing.T) {
 		return api.CertifyCertificate{Name: "old1", Ask: a, Value: value, Proof: p}
 	}
 	third := oldWith(entry("third", -1, 0, -3))
+	single := api.CertifyBook{Parts: []api.CertifyPart{part("c", from(0, 0), from(0, 0))}}
 	for _, x := range []struct {
 		what string
 		b    api.CertifyBook
@@ -28,7 +29,9 @@ func TestIssue(t *testing.T) {
 	}{
 		{"the chapter's mean", old(), mean(), certificate()},
 		{"the chapter's share", old(), share(50), issued(share(50), 500, proof(2, 0, 1))},
-		{"the age of a mean changes nothing", old(), api.CertifyAsk{Age: 50}, certificate()},
+		{"the age of a mean changes nothing, and stays", old(), api.CertifyAsk{Age: 50}, issued(api.CertifyAsk{Age: 50}, 30, proof(1, 10, 20))},
+		{"the age of a mean that is not whole", third, api.CertifyAsk{Age: 400}, issued(api.CertifyAsk{Age: 400}, 23, proof(3, 30, 40))},
+		{"the age of a mean of one part", single, api.CertifyAsk{Age: 1}, issued(api.CertifyAsk{Age: 1}, 0, proof(1, 0))},
 		{"a mean that is not whole", third, mean(), issued(mean(), 23, proof(3, 30, 40))},
 		{"a share that is not whole", third, share(50), issued(share(50), 333, proof(3, 0, 1))},
 		{"a share of nothing", old(), share(400), issued(share(400), 0, proof(1, 0, 0))},
