@@ -76,7 +76,7 @@ func Least(b api.CertifyBook, a api.CertifyAsk) (api.CertifyAnswer, api.Errno) {
 // ShareOf returns the least and the greatest share of a part, in thousandths.
 func ShareOf(b api.CertifyBook, part int) (api.Range, api.Errno) {
 	checked, e := bookOf(b)
-	if e := checks.First(e, checks.Unless(0 <= part && part < len(b.Parts), api.ErrMissing)); e != api.OK {
+	if e := checks.First(e, checks.Element(part, len(b.Parts))); e != api.OK {
 		return api.Range{}, e
 	}
 	shares := make([]int, len(b.Parts))

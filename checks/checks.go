@@ -45,11 +45,20 @@ func Each(count int, errorOf func(n int) api.Errno) (int, api.Errno) {
 	return 0, api.OK
 }
 
+// Element asks for the number of one of so many elements.
+func Element(n, count int) api.Errno { return Unless(0 <= n && n < count, api.ErrMissing) }
+
+// Elements asks for numbers of some of so many elements, in any order, and each one as often as it likes.
+func Elements(l []int, count int) api.Errno {
+	_, e := Each(len(l), func(n int) api.Errno { return Element(l[n], count) })
+	return e
+}
+
 // Chosen asks for the numbers of some of so many elements, ascending.
 func Chosen(l []int, count int) api.Errno {
 	_, e := Each(len(l), func(n int) api.Errno {
 		return First(
-			Unless(0 <= l[n] && l[n] < count, api.ErrMissing),
+			Element(l[n], count),
 			Unless(n == 0 || l[n-1] < l[n], api.ErrOrder))
 	})
 	return e

@@ -108,6 +108,25 @@ func TestEach(t *testing.T) {
 	}
 }
 
+func TestElements(t *testing.T) {
+	for n, e := range map[int]api.Errno{0: api.OK, 2: api.OK, -1: api.ErrMissing, 3: api.ErrMissing, math.MinInt: api.ErrMissing, math.MaxInt: api.ErrMissing} {
+		if f := Element(n, 3); f != e {
+			t.Errorf("%d: %d", n, f)
+		}
+		for _, l := range [][]int{{n}, {2, n}, {n, 0}, {1, n, 1}} {
+			if f := Elements(l, 3); f != e {
+				t.Errorf("%v: %d", l, f)
+			}
+		}
+	}
+	if e := Element(0, 0); e != api.ErrMissing {
+		t.Errorf("of none: %d", e)
+	}
+	if e := Elements(nil, 0); e != api.OK {
+		t.Errorf("none: %d", e)
+	}
+}
+
 func TestChosen(t *testing.T) {
 	for _, x := range []struct {
 		l []int

@@ -55,7 +55,7 @@ func bookOf(b api.GaugeBook) (book, api.Errno) {
 
 // readingError asks for a gauging of this number.
 func (b book) readingError(reading int) api.Errno {
-	return checks.Unless(0 <= reading && reading < len(b.Readings), api.ErrMissing)
+	return checks.Element(reading, len(b.Readings))
 }
 
 // net is the net of a cask behind a day, up to another one.

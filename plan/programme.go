@@ -65,8 +65,8 @@ func (p programme) without(n int) programme {
 // Without returns a programme without a demand.
 func Without(p api.PlanProgram, demand int) (api.PlanProgram, api.Errno) {
 	return asked(p, func(p programme) (api.PlanProgram, api.Errno) {
-		if demand < 0 || demand >= len(p.Demands) {
-			return api.PlanProgram{}, api.ErrMissing
+		if e := checks.Element(demand, len(p.Demands)); e != api.OK {
+			return api.PlanProgram{}, e
 		}
 		return p.without(demand).PlanProgram, api.OK
 	})
