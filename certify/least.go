@@ -22,7 +22,7 @@ func (b book) least(worths []int) (api.CertifyAnswer, bool) {
 	mix := lowest.Terms(append([]int{c.Den}, c.Parts...)...)
 	proof := lowest.Terms(append([]int{c.Den, c.Value + rows.ComesTo(c.Weights, b.mosts())}, c.Weights...)...)
 	return api.CertifyAnswer{
-		Value: fraction(c.Value, c.Den),
+		Value: lowest.Fraction(c.Value, c.Den),
 		Mix:   api.CertifyMix{Den: mix[0], Parts: mix[1:]},
 		Proof: api.CertifyProof{Den: proof[0], Level: proof[1], Weights: proof[2:]},
 	}, true

@@ -3,6 +3,7 @@ package certify
 import (
 	"criadera/api"
 	"criadera/checks"
+	"criadera/lowest"
 	"criadera/rows"
 )
 
@@ -37,5 +38,5 @@ func ValueOf(b api.CertifyBook, a api.CertifyAsk, m api.CertifyMix) ([2]int, api
 	if e := checks.First(e, checked.mixError(m)); e != api.OK {
 		return [2]int{}, e
 	}
-	return fraction(rows.ComesTo(m.Parts, checked.worths(a)), m.Den), api.OK
+	return lowest.Fraction(rows.ComesTo(m.Parts, checked.worths(a)), m.Den), api.OK
 }

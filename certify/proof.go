@@ -5,6 +5,7 @@ import (
 
 	"criadera/api"
 	"criadera/checks"
+	"criadera/lowest"
 	"criadera/rows"
 )
 
@@ -50,7 +51,7 @@ func (b book) bound(a api.CertifyAsk, p api.CertifyProof) ([2]int, bool) {
 	if slices.Min(sums) < p.Level {
 		return [2]int{}, false
 	}
-	return fraction(p.Level-rows.ComesTo(p.Weights, b.mosts()), p.Den), true
+	return lowest.Fraction(p.Level-rows.ComesTo(p.Weights, b.mosts()), p.Den), true
 }
 
 // hungOn is the numbers of entries on which a proof hangs.

@@ -8,7 +8,7 @@ import (
 	"criadera/rows"
 )
 
-// A Task is what numbers must keep, and their worth. Each list comes to the sum of the numbers, each one so many times: One to 1, each of Planes to 0 at most, and Worth to as little as possible. All lists are equally long, and have one number at least. What the planes permit must be bounded, and determinants of the lists must be small enough to be added up as ints.
+// A Task is what numbers must keep, and their worth. Each list comes to the sum of the numbers, each one so many times: One to 1, each of Planes to 0 at most, and Worth to as little as possible. All lists are equally long, and have one number at least. What the planes permit must not be worth less and less without end, and determinants of the lists must be small enough to be added up as ints.
 type Task struct {
 	One    []int
 	Planes [][]int

@@ -44,6 +44,7 @@ func TestLeast(t *testing.T) {
 		{"half of it", Task{One: []int{1, 1}, Planes: [][]int{{1, -1}}, Worth: []int{10, 50}}, Corner{Den: 2, Value: 60, Parts: []int{1, 1}, Weights: []int{40}}},
 		{"a plane that does nothing", Task{One: []int{1, 1}, Planes: [][]int{{-1, -1}}, Worth: []int{10, 50}}, Corner{Den: 1, Value: 10, Parts: []int{1, 0}, Weights: []int{0}}},
 		{"two planes that leave one place", Task{One: []int{1, 1}, Planes: [][]int{{1, -3}, {-1, 3}}, Worth: []int{1, 1}}, Corner{Den: 4, Value: 4, Parts: []int{3, 1}, Weights: []int{0, 0}}},
+		{"a number without a greatest one", Task{One: []int{1, 0}, Planes: [][]int{{3, -1}, {1, -2}}, Worth: []int{0, 1}}, Corner{Den: 1, Value: 3, Parts: []int{1, 3}, Weights: []int{1, 0}}},
 		{"a number that is 1, another of 5 at most", Task{One: []int{1, 0}, Planes: [][]int{{-5, 1}}, Worth: []int{0, -3}}, Corner{Den: 1, Value: -15, Parts: []int{1, 5}, Weights: []int{3}}},
 	} {
 		c, ok := Least(x.task)

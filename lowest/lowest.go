@@ -21,3 +21,6 @@ func Terms(l ...int) []int {
 	}
 	return out
 }
+
+// Fraction is num / den in lowest terms, as two numbers; den is above 0.
+func Fraction(num, den int) [2]int { return [2]int(Terms(num, den)) }

@@ -34,3 +34,13 @@ func TestTerms(t *testing.T) {
 		}
 	}
 }
+
+func TestFraction(t *testing.T) {
+	for x, want := range map[[2]int][2]int{
+		{0, 1}: {0, 1}, {0, 12}: {0, 1}, {7, 1}: {7, 1}, {18, 12}: {3, 2}, {-18, 12}: {-3, 2}, {12, 18}: {2, 3}, {-5, 7}: {-5, 7}, {1000000000000, 500000000000}: {2, 1},
+	} {
+		if got := Fraction(x[0], x[1]); got != want {
+			t.Errorf("%v: %v, want %v", x, got, want)
+		}
+	}
+}
